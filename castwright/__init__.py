@@ -1,0 +1,1 @@
+"""Castwright: terms of which only some kinds are known."""

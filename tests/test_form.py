@@ -1,4 +1,4 @@
-"""Holds the package's files against those rules of the language that a walk over them can see."""
+"""Holds the package's files against a part of the language's rules; L13, L19, L22 to L24 and L28 are not looked at."""
 
 import ast
 import builtins

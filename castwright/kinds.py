@@ -21,6 +21,21 @@ def entry_of(row, name):
     return ("free",) if row[2] else ("none",)
 
 
+def names_of(row):
+    return [field[0] for field in row[1]]
+
+
+# In order, since of two names the first in order is told first.
+def names_of_both(one, other):
+    return sorted(set(names_of(one)) | set(names_of(other)))
+
+
+# A name whose entry is free is not told in the row.
+def row_of(names, entries, is_open):
+    fields = [(name,) + entry for name, entry in zip(names, entries) if entry != ("free",)]
+    return ("row", tuple(fields), is_open)
+
+
 def is_known(kind):
     check_kind(kind)
     return not any([leaves_unknown(part) for part in kinds_in(kind)])
@@ -40,27 +55,36 @@ def check_kind(thing):
         raise NoKind("this is no kind")
 
 
+def check_kinds(one, other):
+    check_kind(one)
+    check_kind(other)
+
+
+def is_kind(thing):
+    return is_made_of(thing, has_form, kinds_within, MOST_KINDS, MOST_DEPTH)
+
+
 # Walked layer by layer, not by recursion: the bounds then end the walk
 # before it can grow far beyond them, however large the thing is.
-def is_kind(thing):
+def is_made_of(thing, is_formed, things_within, most, deepest):
     layer = [thing]
     count = 0
     depth = 0
     while len(layer) > 0:
         count += len(layer)
         depth += 1
-        if count > MOST_KINDS or depth > MOST_DEPTH:
+        if count > most or depth > deepest:
             return False
-        if not all([has_form(part) for part in layer]):
+        if not all([is_formed(part) for part in layer]):
             return False
-        layer = layer_within(layer)
+        layer = layer_within(layer, things_within)
     return True
 
 
-def layer_within(kinds):
+def layer_within(layer, things_within):
     found = []
-    for kind in kinds:
-        found.extend(kinds_within(kind))
+    for thing in layer:
+        found.extend(things_within(thing))
     return found
 
 
@@ -82,7 +106,7 @@ def kinds_within(kind):
 # Says nothing of the things that stand where kinds straight within should:
 # they are looked at in their own turn.
 def has_form(thing):
-    if not isinstance(thing, tuple) or len(thing) == 0:
+    if not isinstance(thing, tuple) or len(thing) == 0 or not isinstance(thing[0], str):
         return False
     if len(thing) != LENGTHS.get(thing[0]):
         return False

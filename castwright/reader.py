@@ -9,8 +9,11 @@ class Reader:
         self.text = text
         self.place = 0
 
+    def sees(self, piece):
+        return self.text.startswith(piece, self.place)
+
     def takes(self, piece):
-        if not self.text.startswith(piece, self.place):
+        if not self.sees(piece):
             return False
         self.place += len(piece)
         return True
@@ -27,5 +30,12 @@ class Reader:
     def word(self):
         start = self.place
         while self.place < len(self.text) and is_small_letter(self.text[self.place]):
+            self.place += 1
+        return self.text[start:self.place]
+
+    # Perhaps empty. Not isdigit: it takes signs beyond 9 for figures too.
+    def figures(self):
+        start = self.place
+        while self.place < len(self.text) and "0" <= self.text[self.place] <= "9":
             self.place += 1
         return self.text[start:self.place]

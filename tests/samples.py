@@ -253,3 +253,58 @@ def changed(thing):
             for part in changed(thing[at]):
                 found.append(thing[:at] + (part,) + thing[at + 1:])
     return found
+
+
+def small_rows():
+    """Rows of the names a and b, with many entries of both, open and closed."""
+    found = []
+    fields = [make("a", kind) for make in (must, may) for kind in (ANY, NUM, TRUTH)]
+    for first in [[]] + [[field] for field in fields]:
+        for second in ([], [must("b")], [may("b", ANY)], [may("b")]):
+            found.append(row(*first, *second))
+            found.append(open_row(*first, *second))
+    return found
+
+
+def small_kinds():
+    """Kinds of each head, small enough that each can be held against each."""
+    leaves = [ANY, NUM, TRUTH]
+    found = leaves + small_rows()
+    found += [to(taken, given) for taken in leaves for given in leaves]
+    found += [box(inside) for inside in leaves + [row(), open_row(), row(must("a")), open_row(must("a")), row(may("a"))]]
+    found += [to(row(must("a")), NUM), to(row(may("a")), NUM), to(open_row(), ANY), to(NUM, row(may("a")))]
+    found += [to(to(NUM, TRUTH), NUM), to(to(ANY, TRUTH), NUM), to(to(TRUTH, TRUTH), ANY), to(NUM, to(NUM, NUM))]
+    found += [box(box(NUM)), box(box(ANY)), box(to(NUM, ANY)), box(to(ANY, NUM)), to(box(NUM), box(ANY))]
+    for inner in (row(), row(must("b")), row(may("b")), open_row(), box(NUM), to(ANY, NUM), to(NUM, NUM)):
+        found += [row(must("a", inner)), open_row(may("a", inner)), row(may("a", inner))]
+    return found
+
+
+def forgotten_once(kind):
+    """What comes of a kind by one small step down: a part unknown, a row open, a field of an open row left out."""
+    found = [ANY]
+    if kind[0] == "to":
+        found += [to(taken, kind[2]) for taken in forgotten_once(kind[1])]
+        found += [to(kind[1], given) for given in forgotten_once(kind[2])]
+    if kind[0] == "box":
+        found += [box(inside) for inside in forgotten_once(kind[1])]
+    if kind[0] == "row":
+        found.append(open_row(*kind[1]))
+        for at, (name, mark, inner) in enumerate(kind[1]):
+            if kind[2]:
+                found.append(open_row(*kind[1][:at], *kind[1][at + 1:]))
+            for less in forgotten_once(inner):
+                found.append(("row", kind[1][:at] + ((name, mark, less),) + kind[1][at + 1:], kind[2]))
+    return found
+
+
+def all_below(kind):
+    """Every kind that is no more known than one, reckoned by small steps down from it."""
+    seen = {kind}
+    fresh = [kind]
+    while fresh:
+        for less in forgotten_once(fresh.pop()):
+            if less not in seen:
+                seen.add(less)
+                fresh.append(less)
+    return seen

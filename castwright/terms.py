@@ -113,6 +113,18 @@ def is_term_field(thing):
     return isinstance(thing, tuple) and len(thing) == 2 and is_name(thing[0])
 
 
+# Of a term within a whole one that is judged. The names in force there have
+# the kinds that the functions around it tell.
+def kind_at(whole, path):
+    term = whole
+    names = {}
+    for number in path:
+        if term[0] == "fun":
+            names[term[1]] = term[2]
+        term = parts_of(term)[number]
+    return kind_of(term, names, path)
+
+
 # In names the names that have a kind where the term stands, with these
 # kinds; the path is that of the term.
 def kind_of(term, names, path):

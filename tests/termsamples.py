@@ -3,6 +3,8 @@
 from samples import ANY, BAD, NUM, TRUTH, box, boxes, may, must, names, open_row, row, to, wide
 
 MOST = 99999999999999999999
+FORM_WORDS = ["num", "truth", "name", "fun", "call", "rec", "get", "or", "if", "plus", "less", "new", "read", "write",
+              "as"]
 
 
 def num(number=5):

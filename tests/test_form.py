@@ -1,4 +1,4 @@
-"""Holds the package's files against a part of the language's rules; L13, L19, L22 to L24 and L28 are not looked at."""
+"""Holds the package's files against the language's rules, as far as they can be seen without running them."""
 
 import ast
 import builtins
@@ -169,6 +169,97 @@ class CodeTest(unittest.TestCase):
             self.fail(name)
 
 
+def called(node):
+    """The name of what a call calls, of a method too; None of what is no call."""
+    if not isinstance(node, ast.Call):
+        return None
+    return node.func.attr if isinstance(node.func, ast.Attribute) else node.func.id
+
+
+def nodes_with_parents(kinds):
+    for path, tree in trees().items():
+        for parent in ast.walk(tree):
+            for node in ast.iter_child_nodes(parent):
+                node.parent = parent
+        for node in ast.walk(tree):
+            if isinstance(node, kinds):
+                yield (path.name, node.lineno), node
+
+
+class CallsTest(unittest.TestCase):
+    def test_errors_are_made_and_taken_by_name(self):
+        own = {node.name for name, node in nodes(ast.ClassDef)}
+        for name, node in nodes(ast.Raise):
+            self.assertIn(called(node.exc), own, (name, node.lineno))
+        for name, node in nodes(ast.ExceptHandler):
+            self.assertIsInstance(node.type, ast.Name, (name, node.lineno))
+            self.assertIn(node.type.id, own, (name, node.lineno))
+
+    def test_lambdas_and_powers(self):
+        seen = set()
+        for place, node in nodes_with_parents((ast.Lambda,)):
+            told = place + tuple(part.arg for part in node.args.args)
+            self.assertNotIn(told, seen)
+            seen.add(told)
+        for place, node in nodes_with_parents((ast.BinOp,)):
+            if isinstance(node.op, ast.Pow):
+                self.assertIsInstance(node.right, ast.Constant, place)
+                self.assertLessEqual(node.right.value, 64, place)
+
+    def test_python_s_own_as_they_are_called(self):
+        for place, node in nodes_with_parents((ast.Name,)):
+            if node.id in BUILTINS and node.id not in ("int", "str", "bool", "list", "tuple", "dict", "Exception",
+                                                       "ValueError"):
+                self.assertIsInstance(node.parent, ast.Call, place)
+                self.assertIs(node.parent.func, node, place)
+        keywords = {"key": ("sorted", "min", "max"), "reverse": ("sorted",), "default": ("min", "max"),
+                    "start": ("sum", "enumerate"), "strict": ("zip",)}
+        for place, node in nodes_with_parents((ast.keyword,)):
+            self.assertIn(called(node.parent), keywords.get(node.arg, ()), place)
+
+    def test_walked_on_the_spot(self):
+        takers = {"list", "tuple", "dict", "sorted", "sum", "any", "all", "enumerate", "zip", "min", "max", "join"}
+        for place, node in nodes_with_parents((ast.Call,)):
+            if called(node) in ("zip", "enumerate", "reversed", "range", "items", "keys", "values"):
+                is_walked = isinstance(node.parent, (ast.For, ast.comprehension)) and node.parent.iter is node
+                is_taken = called(node.parent) in takers and node.parent.args[0] is node
+                self.assertTrue(is_walked or is_taken, place)
+
+    def test_what_a_loop_walks_is_not_changed_in_it(self):
+        changes = {"append", "clear", "extend", "insert", "pop", "remove", "reverse", "setdefault", "update"}
+        for place, node in nodes_with_parents((ast.For,)):
+            walked = {part.id for part in ast.walk(node.iter) if isinstance(part, ast.Name)}
+            for part in ast.walk(node):
+                if called(part) in changes and isinstance(part.func, ast.Attribute):
+                    self.assertNotIn(getattr(part.func.value, "id", None), walked, place)
+
+    def test_sets_are_not_kept(self):
+        for place, node in nodes_with_parents((ast.Call,)):
+            if called(node) in ("set", "frozenset"):
+                around = node.parent
+                while isinstance(around, ast.BinOp):
+                    around = around.parent
+                self.assertTrue(called(around) in ("sorted", "len") or isinstance(around, ast.Compare), place)
+
+    def test_the_methods_with_two_underscores(self):
+        for name, node in nodes(ast.ClassDef):
+            for part in node.body:
+                if isinstance(part, ast.FunctionDef) and part.name.startswith("__"):
+                    self.assertEqual(part.name, "__init__", (name, node.name))
+                    self.assertFalse([inner for inner in ast.walk(part) if isinstance(inner, ast.Return)], name)
+
+    def test_lists_and_dicts_of_the_top_are_only_read(self):
+        for path, tree in trees().items():
+            told = {node.targets[0].id for node in tree.body if isinstance(node, ast.Assign)
+                    and isinstance(node.value, (ast.List, ast.Dict))}
+            for part in ast.walk(tree):
+                for node in ast.iter_child_nodes(part):
+                    if isinstance(node, ast.Name) and node.id in told and isinstance(node.ctx, ast.Load):
+                        is_read = isinstance(part, ast.Subscript) and isinstance(part.ctx, ast.Load)
+                        is_asked = isinstance(part, ast.Attribute) and part.attr == "get"
+                        self.assertTrue(is_read or is_asked or isinstance(part, ast.Compare), (path.name, node.lineno))
+
+
 class NamesTest(unittest.TestCase):
     def test_bound_names(self):
         for path, tree in trees().items():
@@ -177,6 +268,16 @@ class NamesTest(unittest.TestCase):
                     self.assertRegex(name, r"\A[A-Za-z][A-Za-z0-9_]*\Z", path.name)
                     self.assertFalse(hasattr(builtins, name), (path.name, name))
                     self.assertNotIn(name, BANNED_NAMES, path.name)
+
+    def test_no_local_is_called_like_a_class_or_an_import(self):
+        for path, tree in trees().items():
+            taken = {alias.name for node in tree.body if isinstance(node, ast.ImportFrom) for alias in node.names}
+            taken |= {node.name for node in tree.body if isinstance(node, ast.ClassDef)}
+            for node in ast.walk(tree):
+                if isinstance(node, ast.arg):
+                    self.assertNotIn(node.arg, taken, path.name)
+                if isinstance(node, ast.Name) and isinstance(node.ctx, ast.Store):
+                    self.assertNotIn(node.id, taken, path.name)
 
     def test_used_names(self):
         for path, tree in trees().items():
